@@ -1,0 +1,83 @@
+"""Books for the tests, and values worked out from formulas without the program."""
+
+import random
+
+ONES = (2, [
+    ("o", 0, [[(1, "o")], [(1, "o"), (1, "e")]]),
+    ("e", 1, [[(1, "e")], [(1, "e")]]),
+])
+STERN = (2, [
+    ("s", 0, [[(1, "s")], [(1, "s"), (1, "t")]]),
+    ("t", 1, [[(1, "s"), (1, "t")], [(1, "t")]]),
+])
+# A name twice in a formula, a coefficient 0, an empty formula, a start below 0.
+MIXED = (3, [
+    ("q", -7, [[(2, "q"), (-1, "q")], [(0, "z"), (3, "u")], [(-9, "q"), (4, "z"), (1, "u")]]),
+    ("u", 1, [[(1, "u")], [], [(1, "u"), (1, "u"), (-5, "z")]]),
+    ("z", 0, [[], [(1, "q")], [(0, "q")]]),
+])
+FOURS = (4, [
+    ("a", 2, [[(2, "b")], [(1, "a"), (1, "a"), (1, "a")], [], [(-1, "c"), (9, "a")]]),
+    ("b", 1, [[(1, "b")], [(1, "b"), (1, "c")], [(1, "b"), (2, "c")], [(0, "a")]]),
+    ("c", -3, [[(-5, "b"), (1, "a")], [(1, "c")], [(7, "b"), (-2, "c")], [(1, "c")]]),
+])
+BOOKS = [ONES, STERN, MIXED, FOURS]
+
+
+def place_book(base):
+    """Return what makes a book whose row p has at each place this place itself."""
+    place_formulas = [[(base, "p"), (figure, "u")] for figure in range(base)]
+    return base, [("p", 0, place_formulas), ("u", 1, [[(1, "u")]] * base)]
+
+
+def value_of(base, rows, name, place, known=None):
+    """Return the value of a named row at a place, as the words of [4] tell it."""
+    known = {} if known is None else known
+    if (name, place) not in known:
+        start, formulas = [(row[1], row[2]) for row in rows if row[0] == name][0]
+        known[name, place] = start if place == 0 else sum(
+            coefficient * value_of(base, rows, other, place // base, known)
+            for coefficient, other in formulas[place % base]
+        )
+    return known[name, place]
+
+
+def sum_of(base, rows, coefficients, place):
+    """Return the value at a place of the row with these coefficients."""
+    known = {}
+    names = [row[0] for row in rows]
+    return sum(
+        coefficient * value_of(base, rows, name, place, known)
+        for coefficient, name in zip(coefficients, names)
+    )
+
+
+def telling_places(base):
+    """Return places that are small, next to powers of the base, or of thirty digits."""
+    places = list(range(70))
+    power = 1
+    while power <= 10 ** 30:
+        places += [power - 1, power, power + 1]
+        power *= base
+    places += [10 ** 29, 10 ** 30 - 1, 10 ** 30, 123456789012345678901234567890]
+    places += [314159265358979323846264338327, 999999999999999999999999999998]
+    return places
+
+
+def sound_book(seed, base):
+    """Return what makes a book with many terms, the same one for each seed."""
+    choice = random.Random(seed)
+    names = "kwxy"
+    starts = {name: choice.randint(-9, 9) for name in names}
+    starts["u"] = 1
+    rows = [("u", 1, [[(1, "u")]] + [[] for _ in range(base - 1)])]
+    for name in names:
+        formulas = [
+            [(choice.randint(-9, 9), choice.choice(names)) for _ in range(choice.randint(0, 6))]
+            for _ in range(base)
+        ]
+        # The first formula has to make the start: what is missing comes from the start 1 of u.
+        made = sum(coefficient * starts[other] for coefficient, other in formulas[0])
+        formulas[0] = formulas[0] + [(starts[name] - made, "u")]
+        rows.append((name, starts[name], formulas))
+    return base, rows
