@@ -2,6 +2,7 @@
 
 from figurebooks.checks import check_base, is_letter
 from figurebooks.errors import InvalidFormula, InvalidName, Unsound
+from figurebooks.systems import System
 
 
 class Book:
@@ -17,7 +18,10 @@ class Book:
         self._names = [name for name, _, _ in rows]
         self._starts = [start for _, start, _ in rows]
         self._formulas = [_copied(formulas) for _, _, formulas in rows]
-        self._steps = [_step_of(self._names, self._formulas, figure) for figure in range(base)]
+        self._system = System(
+            self._starts,
+            [_step_of(self._names, self._formulas, figure) for figure in range(base)],
+        )
 
     @property
     def base(self):
@@ -30,9 +34,9 @@ class Book:
         return list(self._names)
 
     @property
-    def starts(self):
-        """The values of the named rows at place 0, in their sequence."""
-        return list(self._starts)
+    def system(self):
+        """The named rows without their names, in their sequence."""
+        return self._system
 
     def index_of(self, name):
         """Return where a named row stands among the named rows."""
@@ -47,13 +51,6 @@ class Book:
     def formulas_of(self, name):
         """Return the formulas of a named row, as they were passed."""
         return _copied(self._formulas[self.index_of(name)])
-
-    def stepped(self, values, figure):
-        """Return the values of the named rows at place base * n + figure from those at place n."""
-        return [
-            sum([coefficient * values[index] for coefficient, index in terms])
-            for terms in self._steps[figure]
-        ]
 
     def __eq__(self, other):
         return (

@@ -2,7 +2,7 @@
 
 from figurebooks.checks import check_number
 from figurebooks.errors import InvalidNumber
-from figurebooks.figures import figures_of
+from figurebooks.vectors import weighted_sum
 
 
 class Row:
@@ -28,19 +28,16 @@ class Row:
     def value_at(self, place):
         """Return the value at a place."""
         check_number(place)
-        values = self._book.starts
-        for figure in figures_of(place, self._book.base):
-            values = self._book.stepped(values, figure)
-        return _weighted_sum(self._coefficients, values)
+        return weighted_sum(self._coefficients, self._book.system.values_at(place))
 
     def first_values(self, number):
         """Return the list of the first values, so many."""
         check_number(number)
-        base = self._book.base
-        reached = [self._book.starts]
+        system = self._book.system
+        reached = [system.starts]
         for place in range(1, number):
-            reached.append(self._book.stepped(reached[place // base], place % base))
-        return [_weighted_sum(self._coefficients, values) for values in reached[:number]]
+            reached.append(system.stepped(reached[place // system.base], place % system.base))
+        return [weighted_sum(self._coefficients, values) for values in reached[:number]]
 
     def __eq__(self, other):
         return (
@@ -55,8 +52,3 @@ def row_named(book, name):
     coefficients = [0] * len(book.names)
     coefficients[book.index_of(name)] = 1
     return Row(book, coefficients)
-
-
-def _weighted_sum(weights, values):
-    """Return the sum of the products of weights and values at the same places of two lists."""
-    return sum([weight * value for weight, value in zip(weights, values)])

@@ -81,3 +81,51 @@ def sound_book(seed, base):
         formulas[0] = formulas[0] + [(starts[name] - made, "u")]
         rows.append((name, starts[name], formulas))
     return base, rows
+
+
+def coarse_book(seed, base, count):
+    """Return what makes a book whose rows differ by much, so that sums of them leave many numbers out."""
+    choice = random.Random(seed)
+    names = "hijklm"[:count]
+    factors = [-6, -4, -3, -2, 2, 3, 4, 6]
+    rows = []
+    for name in names:
+        formulas = [
+            [(choice.choice(factors), choice.choice(names)) for _ in range(choice.randint(0, 2))]
+            for _ in range(base - 1)
+        ]
+        rows.append((name, choice.randint(0, 9), [[(1, name)]] + formulas))
+    return base, rows
+
+
+def coarse_coefficients(seed, count):
+    """Return coefficients for a book, the same ones for each seed."""
+    choice = random.Random(1000 + seed)
+    return [choice.randint(-9, 9) for _ in range(count)]
+
+
+def chain_book(base, count, factor=1, last_factor=0):
+    """Return what makes a book whose rows lead to one another by the greatest figure.
+
+    With the factors 1 and 0 the row with index k is 1 where the greatest figure stands at exactly
+    count - 1 - k places of the number, and 0 elsewhere.
+    """
+    names = "abcdefghijklmnopqrstuvwxyz"[-count:]
+    rows = []
+    for index, name in enumerate(names):
+        still = [[(1, name)]] * (base - 1)
+        if index < count - 1:
+            rows.append((name, 0, still + [[(factor, names[index + 1])]]))
+        else:
+            rows.append((name, 1, still + [[(last_factor, name)]]))
+    return base, rows
+
+
+def ring_book(base, count):
+    """Return what makes a book whose row with index k is 1 where the greatest figure stands at
+    count - 1 - k places of the number, or count, or twice count more, and so on, and 0 elsewhere."""
+    names = "abcdefghijklmnopqrstuvwxyz"[:count]
+    return base, [
+        (name, int(index == count - 1), [[(1, name)]] * (base - 1) + [[(1, names[(index + 1) % count])]])
+        for index, name in enumerate(names)
+    ]

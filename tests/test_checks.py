@@ -2,16 +2,10 @@
 
 import unittest
 
-from figurebooks.books import Book
 from figurebooks.checks import check_bases, check_number
 from figurebooks.errors import InvalidNumber, UnlikeBases
 from figurebooks.figures import figures_of
-from figurebooks.rows import Row
-
-
-def nothing(base):
-    """Return the row of the book with no rows."""
-    return Row(Book(base, []), [])
+from tests.bases import nothing
 
 
 class NumberCheck(unittest.TestCase):

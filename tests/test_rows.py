@@ -1,7 +1,6 @@
 """Promises [1] (reading), [2], [4] and [5] and the interface of `Row` and `row_named`."""
 
 import copy
-import doctest
 import unittest
 from math import comb
 
@@ -10,6 +9,7 @@ from figurebooks.books import Book
 from figurebooks.errors import InvalidName, InvalidNumber
 from figurebooks.rows import Row, row_named
 from tests.equality import EqualityCase, Like
+from tests.examples import ExampleCase
 from tests.samples import BOOKS, FOURS, MIXED, ONES, STERN
 from tests.samples import place_book, sound_book, sum_of, telling_places, value_of
 
@@ -26,12 +26,10 @@ EXAMPLE = """
 NEGATIVE = (-1, -2, -7, -100, -10 ** 15, -10 ** 30, -10 ** 60)
 
 
-class Example(unittest.TestCase):
+class Example(ExampleCase):
 
     def test_the_example_of_the_interface(self):
-        test = doctest.DocTestParser().get_doctest(EXAMPLE, {}, "interface", None, 0)
-        outcome = doctest.DocTestRunner(verbose=False).run(test)
-        self.assertEqual((outcome.failed, outcome.attempted), (0, 5))
+        self.assert_example(EXAMPLE)
 
 
 class Construction(unittest.TestCase):

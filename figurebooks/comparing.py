@@ -1,0 +1,10 @@
+"""Comparing rows that may be of different books."""
+
+from figurebooks.spans import spanning_places
+from figurebooks.systems import united
+
+
+def compared(rows):
+    """Return the spanning places of the books of rows of one base, and the values of each row there."""
+    places = spanning_places(united([row.book.system for row in rows]))
+    return places, [[row.value_at(place) for place in places] for row in rows]

@@ -1,0 +1,54 @@
+"""The few places whose values tell all rows of a system."""
+
+from math import gcd
+
+from figurebooks.vectors import front_of, lessened
+
+
+def spanning_places(system):
+    """Return, ascending, the places whose values are no sum of multiples of those at lesser places.
+
+    The multiples may be fractions. A sum of rows that is 0 at all these places is always 0, and the
+    first place where it is not 0 is one of them.
+    """
+    base = system.base
+    places = []
+    reduced = []
+    level = [(0, system.starts)]
+    while level:
+        kept = []
+        for place, values in level:
+            rest = _eliminated(values, reduced)
+            if any(rest):
+                reduced.append(rest)
+                kept.append((place, values))
+        places.extend([place for place, _ in kept])
+        # Where the values at n are made by those at lesser places, so are the ones at base * n + figure.
+        level = [
+            (base * place + figure, system.stepped(values, figure))
+            for place, values in kept
+            for figure in range(base)
+            if base * place + figure > place
+        ]
+    return places
+
+
+def _eliminated(values, reduced):
+    """Return a multiple of values, less multiples of lists, that is 0 at the front of each list."""
+    rest = list(values)
+    for told in reduced:
+        front = front_of(told)
+        if rest[front] != 0:
+            rest = lessened([told[front] * value for value in rest], rest[front], told)
+            rest = _shortened(rest)
+    return rest
+
+
+def _shortened(values):
+    """Return values divided by what divides them all, which keeps them from growing."""
+    common = 0
+    for value in values:
+        common = gcd(common, value)
+    if common == 0:
+        return values
+    return [value // common for value in values]
