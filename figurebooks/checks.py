@@ -20,6 +20,12 @@ def check_number(number):
         raise InvalidNumber(number)
 
 
+def check_positive(number):
+    """Raise `InvalidNumber(number)` if it is less than 1."""
+    if number < 1:
+        raise InvalidNumber(number)
+
+
 def check_bases(rows):
     """The Base check: raise `UnlikeBases((base, base))` unless all rows have one base."""
     for row in rows:

@@ -1,7 +1,7 @@
 """Plain rows: for each row the one row of the one book that is the same for all books that write it."""
 
 from figurebooks.books import Book
-from figurebooks.kin import Kin
+from figurebooks.kin import Kin, shortest
 from figurebooks.rows import Row
 
 LETTERS = "abcdefghijklmnopqrstuvwxyz"
@@ -24,15 +24,9 @@ def nodes_of(row):
 
 def plain_of(system, weights):
     """Return the plain row of the sum of the rows of a system with given weights."""
-    kin = Kin(system, weights)
-    names = LETTERS[:len(kin.nodes())]
+    told, multiples = shortest(system, weights)
     rows = []
-    for index, name in enumerate(names):
-        formulas = [_terms_of(multiples, names) for multiples in kin.formulas_of(index)]
-        rows.append((name, kin.start_of(index), formulas))
-    return Row(Book(system.base, rows), kin.multiples_of(weights))
-
-
-def _terms_of(multiples, names):
-    """Return the terms of a formula, without those that add nothing."""
-    return [(multiple, name) for multiple, name in zip(multiples, names) if multiple != 0]
+    for index, start in enumerate(told.starts):
+        formulas = [[(multiple, LETTERS[other]) for multiple, other in step[index]] for step in told.steps]
+        rows.append((LETTERS[index], start, formulas))
+    return Row(Book(told.base, rows), multiples)

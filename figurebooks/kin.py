@@ -2,6 +2,7 @@
 
 from figurebooks.lattices import divided, widened
 from figurebooks.spans import spanning_places
+from figurebooks.systems import System
 from figurebooks.vectors import front_of, weighted_sum
 
 
@@ -31,23 +32,27 @@ class Kin:
         """Return the ascending list of the nodes."""
         return list(self._nodes)
 
-    def start_of(self, index):
-        """Return the value at place 0 of a row of the plain book."""
+    def plain_system(self):
+        """Return the system of the rows of the plain book, in their sequence."""
+        told = self._lists[:len(self._nodes)]
         # Where there is a node, the first spanning place is 0.
-        return self._lists[index][0]
-
-    def formulas_of(self, index):
-        """Return, for each figure, the multiples of the rows of the plain book that make a part of one."""
-        weights = self._lists[index][len(self._places):]
-        return [
-            self.multiples_of(self._system.parted(weights, figure))
+        starts = [values[0] for values in told]
+        weights = [values[len(self._places):] for values in told]
+        steps = [
+            [self._terms_of(self._system.parted(own, figure)) for own in weights]
             for figure in range(self._system.base)
         ]
+        return System(starts, steps)
 
     def multiples_of(self, weights):
         """Return the multiples of the rows of the plain book that make the kin with given weights."""
         multiples, _ = divided(self._list_of(weights), self._lists)
         return multiples[:len(self._nodes)]
+
+    def _terms_of(self, weights):
+        """Return the terms of the kin with given weights, without those that add nothing."""
+        multiples = self.multiples_of(weights)
+        return [(multiple, index) for index, multiple in enumerate(multiples) if multiple != 0]
 
     def _gathered(self, waiting):
         """Take in all of the weights that wait, and return new ones that make what was not known."""
@@ -68,3 +73,9 @@ class Kin:
         """Return the spanning places at which a plain list has its front."""
         fronts = [front_of(told) for told in self._lists]
         return [self._places[front] for front in fronts if front < len(self._places)]
+
+
+def shortest(system, weights):
+    """Return the system of the rows of the plain book of a row, and the multiples that make the row."""
+    kin = Kin(system, weights)
+    return kin.plain_system(), kin.multiples_of(weights)

@@ -1,4 +1,4 @@
-"""The few places whose values tell all rows of a system."""
+"""The few places whose values tell all rows of a system, and the few lists that make many."""
 
 from math import gcd
 
@@ -18,7 +18,7 @@ def spanning_places(system):
     while level:
         kept = []
         for place, values in level:
-            rest = _eliminated(values, reduced)
+            rest = eliminated(values, reduced)
             if any(rest):
                 reduced.append(rest)
                 kept.append((place, values))
@@ -33,7 +33,17 @@ def spanning_places(system):
     return places
 
 
-def _eliminated(values, reduced):
+def independent(lists):
+    """Return as few lists as can be of which all lists are sums of multiples, that may be fractions."""
+    reduced = []
+    for values in lists:
+        rest = eliminated(values, reduced)
+        if any(rest):
+            reduced.append(rest)
+    return reduced
+
+
+def eliminated(values, reduced):
     """Return a multiple of values, less multiples of lists, that is 0 at the front of each list."""
     rest = list(values)
     for told in reduced:

@@ -52,13 +52,13 @@ class System:
 def united(systems):
     """Return one system with the rows of several ones of one base, in their sequence."""
     starts = []
-    shifted = []
+    moved = []
     for system in systems:
-        shifted.append([_shifted(step, len(starts)) for step in system.steps])
+        moved.append([shifted(step, len(starts)) for step in system.steps])
         starts.extend(list(system.starts))
-    return System(starts, [[terms for step in parts for terms in step] for parts in zip(*shifted)])
+    return System(starts, [[terms for step in parts for terms in step] for parts in zip(*moved)])
 
 
-def _shifted(step, distance):
+def shifted(step, distance):
     """Return the terms of rows with all indices moved on."""
     return [[(coefficient, index + distance) for coefficient, index in terms] for terms in step]

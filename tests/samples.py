@@ -129,3 +129,35 @@ def ring_book(base, count):
         (name, int(index == count - 1), [[(1, name)]] * (base - 1) + [[(1, names[(index + 1) % count])]])
         for index, name in enumerate(names)
     ]
+
+
+def alone_book(base, place):
+    """Return what makes a book whose first row is 1 at a place alone: the rows read its figures one by one."""
+    prefixes = [place]
+    while prefixes[-1] > 0:
+        prefixes.append(prefixes[-1] // base)
+    names = "zyxwvutsrqponmlkjihgfedcba"[:len(prefixes)]
+    rows = []
+    for index, (name, prefix) in enumerate(zip(names, prefixes)):
+        shorter = names[min(index + 1, len(names) - 1)]
+        formulas = [[(1, shorter)] if figure == prefix % base else [] for figure in range(base)]
+        rows.append((name, int(prefix == 0), formulas))
+    return base, rows
+
+
+def falling_book(seed, base, count):
+    """Return what makes a book whose rows refer to rows ahead of them alone, behind one that is 1 at place 0."""
+    choice = random.Random(seed)
+    names = "jklmno"[:count]
+    rows = [("j", 1, [[(1, "j")]] + [[]] * (base - 1))]
+    starts = {"j": 1}
+    for index, name in enumerate(names[1:], 1):
+        formulas = [
+            [(choice.randint(-9, 9), choice.choice(names[:index])) for _ in range(choice.randint(0, 2))]
+            for _ in range(base)
+        ]
+        # The row just ahead is read by some figure that is not 0, so that each row ends further out.
+        formulas[choice.randint(1, base - 1)].append((choice.choice([-2, -1, 1, 3]), names[index - 1]))
+        starts[name] = sum(factor * starts[other] for factor, other in formulas[0])
+        rows.append((name, starts[name], formulas))
+    return base, rows
