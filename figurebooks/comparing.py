@@ -6,5 +6,9 @@ from figurebooks.systems import united
 
 def compared(rows):
     """Return the spanning places of the books of rows of one base, and the values of each row there."""
-    places = spanning_places(united([row.book.system for row in rows]))
+    books = []
+    for row in rows:
+        if row.book not in books:
+            books.append(row.book)
+    places = spanning_places(united([book.system for book in books]))
     return places, [[row.value_at(place) for place in places] for row in rows]

@@ -2,7 +2,7 @@
 
 from figurebooks.checks import check_bases
 from figurebooks.kin import shortest
-from figurebooks.spans import independent
+from figurebooks.spans import independent, taken_in
 from figurebooks.systems import united
 from figurebooks.vectors import weighted_sum
 
@@ -24,27 +24,43 @@ def alike_from(row, other_row):
 
 def _last_place_of(system, weights):
     """Return the last place of the sum of the rows of a system with given weights."""
+    if any([weighted_sum(weights, values) for values in _values_far_out(system)]):
+        return None
     told, multiples = shortest(system, weights)
     if not multiples:
         return -1
-    depths = _parts_by_depth(told, multiples)
-    if not all([_is_at_nought_alone(told, part) for part in depths[-1]]):
-        return None
     place = 0
     values = told.starts
-    for parts in reversed(depths[:-1]):
+    for parts in reversed(_parts_by_depth(told, multiples)):
         figure = _last_figure(told, values, parts)
         place = told.base * place + figure
         values = told.stepped(values, figure)
     return place
 
 
-def _parts_by_depth(system, weights):
-    """Return, for each number of last figures taken away, few weights that make all parts of a row.
+def _values_far_out(system):
+    """Return few lists whose sums of multiples are those of the values at places that are as great as may be."""
+    figures = range(system.base)
+    far = []
+    level = [system.stepped(system.starts, figure) for figure in figures if figure > 0]
+    while level:
+        kept = [values for values in level if taken_in(values, far)]
+        level = [system.stepped(values, figure) for values in kept for figure in figures]
+    # These are of all places but 0. Of those with a figure more there are as many lists or less; where
+    # there are as many, a figure more does not change what they make any more.
+    count = len(far) + 1
+    while len(far) < count:
+        count = len(far)
+        far = independent([system.stepped(values, figure) for values in far for figure in figures])
+    return far
 
-    The last number is one less than that of the rows. All kin of a row that ends do end, at as many
-    last places as there are rows; and with a last place, it without its last figure is one, too. So
-    all of these have at most so many figures, and the last parts are 0 behind place 0.
+
+def _parts_by_depth(system, weights):
+    """Return, for each number of last figures taken away, few weights that make all parts of a row that ends.
+
+    There are as many numbers as figures that its last place can have. All kin of such a row end, at as
+    many last places as the plain book has rows; and with a last place, it without its last figure is
+    one, too. So with all places that lead to it, and with 0, there are no more than there are rows.
     """
     depths = [[weights]]
     for _ in range(len(weights) - 1):
@@ -52,14 +68,7 @@ def _parts_by_depth(system, weights):
             system.parted(part, figure) for part in depths[-1] for figure in range(system.base)
         ]
         depths.append(independent(parts))
-    return depths
-
-
-def _is_at_nought_alone(system, weights):
-    """Tell whether a sum of the rows of a plain book is 0 behind place 0."""
-    # The figure 0 must lead to the sum itself: then each figure ahead of noughts is read at the end.
-    others = [system.parted(weights, figure) for figure in range(1, system.base)]
-    return system.parted(weights, 0) == weights and not any([any(part) for part in others])
+    return depths[:-1]
 
 
 def _last_figure(system, values, parts):

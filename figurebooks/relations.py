@@ -3,6 +3,7 @@
 from figurebooks.checks import check_bases
 from figurebooks.comparing import compared
 from figurebooks.lattices import widened
+from figurebooks.vectors import unit_of
 
 
 def relations(rows):
@@ -11,11 +12,6 @@ def relations(rows):
     places, lists = compared(rows)
     made = []
     for index, values in enumerate(lists):
-        made = widened(made, values + _multiples_of_one(index, len(rows)))
+        made = widened(made, values + unit_of(index, len(rows)))
     # Behind the values stand the multiples that make them: where all values are 0, these are a relation.
     return [told[len(places):] for told in made if not any(told[:len(places)])]
-
-
-def _multiples_of_one(index, count):
-    """Return the multiples of rows that make the one with an index."""
-    return [int(other == index) for other in range(count)]

@@ -2,7 +2,7 @@
 
 from figurebooks.checks import check_number
 from figurebooks.errors import InvalidNumber
-from figurebooks.vectors import weighted_sum
+from figurebooks.vectors import unit_of, weighted_sum
 
 
 class Row:
@@ -49,6 +49,4 @@ class Row:
 
 def row_named(book, name):
     """Return the row of a book that is its row with a name."""
-    coefficients = [0] * len(book.names)
-    coefficients[book.index_of(name)] = 1
-    return Row(book, coefficients)
+    return Row(book, unit_of(book.index_of(name), len(book.names)))

@@ -18,9 +18,7 @@ def spanning_places(system):
     while level:
         kept = []
         for place, values in level:
-            rest = eliminated(values, reduced)
-            if any(rest):
-                reduced.append(rest)
+            if taken_in(values, reduced):
                 kept.append((place, values))
         places.extend([place for place, _ in kept])
         # Where the values at n are made by those at lesser places, so are the ones at base * n + figure.
@@ -37,10 +35,19 @@ def independent(lists):
     """Return as few lists as can be of which all lists are sums of multiples, that may be fractions."""
     reduced = []
     for values in lists:
+        taken_in(values, reduced)
+    return reduced
+
+
+def taken_in(values, reduced):
+    """Add to lists what is new in values, if these are no sum of multiples; tell whether that is so."""
+    # As many lists as there are numbers in each make all that there can be.
+    if len(reduced) < len(values):
         rest = eliminated(values, reduced)
         if any(rest):
             reduced.append(rest)
-    return reduced
+            return True
+    return False
 
 
 def eliminated(values, reduced):

@@ -33,12 +33,15 @@ class System:
             for terms in self._steps[figure]
         ]
 
-    def values_at(self, place):
-        """Return the values of the rows at a place."""
-        values = list(self._starts)
-        for figure in figures_of(place, len(self._steps)):
+    def read_on(self, values, figures):
+        """Return the values of the rows at a place, with some figures more, from those without these."""
+        for figure in figures:
             values = self.stepped(values, figure)
         return values
+
+    def values_at(self, place):
+        """Return the values of the rows at a place."""
+        return self.read_on(list(self._starts), figures_of(place, len(self._steps)))
 
     def parted(self, weights, figure):
         """Return the weights of the part, for a last figure, of the sum of the rows with given weights."""

@@ -1,6 +1,11 @@
 """Lists of integers of one length, and their sums."""
 
 
+def unit_of(index, count):
+    """Return the list of so many numbers that is 1 at an index and 0 elsewhere."""
+    return [int(other == index) for other in range(count)]
+
+
 def weighted_sum(weights, values):
     """Return the sum of the products of weights and values at the same indices of two lists."""
     return sum([weight * value for weight, value in zip(weights, values)])

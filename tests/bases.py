@@ -1,11 +1,11 @@
 """What the tests of the Base check share."""
 
-import unittest
 from itertools import product
 
 from figurebooks.books import Book
 from figurebooks.errors import UnlikeBases
 from figurebooks.rows import Row
+from tests.refusals import RefusalCase
 from tests.samples import place_book
 
 
@@ -14,7 +14,7 @@ def nothing(base):
     return Row(Book(base, []), [])
 
 
-class BaseCase(unittest.TestCase):
+class BaseCase(RefusalCase):
 
     def assert_base_check_of_two(self, function):
         """Assert that a function of two rows refuses rows of unlike bases."""
@@ -39,8 +39,4 @@ class BaseCase(unittest.TestCase):
 
     def assert_unlike(self, value, function, *arguments):
         """Assert that a call raises just this error."""
-        with self.assertRaises(UnlikeBases) as context:
-            function(*arguments)
-        self.assertIs(type(context.exception), UnlikeBases)
-        self.assertEqual(context.exception.value, value)
-        self.assertIs(type(context.exception.value), tuple)
+        self.refused(UnlikeBases, value, function, *arguments)

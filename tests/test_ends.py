@@ -18,7 +18,7 @@ from tests.references import walked_sum
 from tests.samples import BOOKS, MIXED, ONES, STERN
 from tests.samples import alone_book, chain_book, coarse_book, coarse_coefficients, falling_book
 from tests.samples import place_book, ring_book, sound_book
-from tests.writings import renamed, row_of, turned, with_idle, writings_of
+from tests.writings import relettered, renamed, row_of, turned, with_idle, writings_of
 
 # Word for word as in the interface.
 EXAMPLE = """
@@ -47,15 +47,6 @@ def walked_end(base, values, count):
     if not places:
         return -1
     return places[-1] if places[-1] < base ** count else None
-
-
-def relettered(rows, letters):
-    """Write named rows with other names."""
-    names = {row[0]: letter for row, letter in zip(rows, letters)}
-    return [
-        (names[name], start, [[(factor, names[other]) for factor, other in terms] for terms in formulas])
-        for name, start, formulas in rows
-    ]
 
 
 def many_alone(base, places, coefficients):

@@ -411,12 +411,6 @@ class Writings(JoinCase):
 
 class Errors(BaseCase):
 
-    def refused(self, error, value, function, *arguments):
-        with self.assertRaises(error) as context:
-            function(*arguments)
-        self.assertIs(type(context.exception), error)
-        self.assertEqual(context.exception.value, value)
-
     def test_two_rows_of_unlike_bases(self):
         for function in (added, product):
             self.assert_base_check_of_two(function)

@@ -14,6 +14,7 @@ from figurebooks.rows import Row, row_named
 from tests.bases import nothing
 from tests.examples import ExampleCase
 from tests.references import walked_sum
+from tests.refusals import RefusalCase
 from tests.samples import BOOKS, MIXED, ONES, STERN
 from tests.samples import alone_book, chain_book, coarse_book, coarse_coefficients, falling_book
 from tests.samples import place_book, ring_book, telling_places
@@ -365,15 +366,9 @@ class Always(RestCase):
                                          count_rest(row, modulus, rest, 10 ** 29))
 
 
-class Errors(unittest.TestCase):
+class Errors(RefusalCase):
 
     ROWS = [Row(Book(*STERN), [1, 2]), Row(Book(3, []), [])]
-
-    def refused(self, error, value, function, *arguments):
-        with self.assertRaises(error) as context:
-            function(*arguments)
-        self.assertIs(type(context.exception), error)
-        self.assertEqual(context.exception.value, value)
 
     def test_a_modulus_that_is_less_than_one(self):
         for row in self.ROWS:

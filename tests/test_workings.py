@@ -7,9 +7,9 @@ from figurebooks.books import Book
 from figurebooks.comparing import compared
 from figurebooks.lattices import divided, widened
 from figurebooks.rows import row_named
-from figurebooks.spans import spanning_places
-from figurebooks.systems import System, united
-from figurebooks.vectors import front_of, lessened, weighted_sum
+from figurebooks.spans import eliminated, independent, spanning_places, taken_in
+from figurebooks.systems import System, shifted, united
+from figurebooks.vectors import front_of, lessened, unit_of, weighted_sum
 from tests.references import hermite, rank, walked
 from tests.samples import BOOKS, ONES, STERN, chain_book, coarse_book, place_book, sound_book
 
@@ -20,6 +20,7 @@ class Lists(unittest.TestCase):
         self.assertEqual(weighted_sum([2, -1, 0], [5, 7, 9]), 3)
         self.assertEqual(weighted_sum([], []), 0)
         self.assertEqual(lessened([5, 7], 3, [1, -2]), [2, 13])
+        self.assertEqual([unit_of(index, 3) for index in range(3)], [[1, 0, 0], [0, 1, 0], [0, 0, 1]])
         self.assertEqual([front_of(values) for values in ([1, 2], [0, -2], [0, 0], [])], [0, 1, 2, 0])
 
 
@@ -60,6 +61,17 @@ class Systems(unittest.TestCase):
         system.values_at(0).append(4)
         self.assertEqual(system.values_at(0), [1, 2])
 
+    def test_figures_more(self):
+        for base, rows in BOOKS:
+            system = Book(base, rows).system
+            for place in (0, 1, 5, 80):
+                values = system.values_at(place)
+                self.assertEqual(system.read_on(values, []), values)
+                self.assertEqual(system.read_on(values, [1, 0, 1]), system.values_at(base ** 3 * place + base ** 2 + 1))
+
+    def test_indices_that_are_moved_on(self):
+        self.assertEqual(shifted([[(5, 0), (-1, 2)], []], 3), [[(5, 3), (-1, 5)], []])
+
     def test_the_part_of_a_sum_of_rows(self):
         for base, rows in BOOKS:
             system = Book(base, rows).system
@@ -91,11 +103,28 @@ class Spans(unittest.TestCase):
             with self.subTest(base=base, rows=rows):
                 self.assertEqual(spanning_places(Book(base, rows).system), expected)
 
+    def test_lists_that_are_no_sums_of_others(self):
+        choice = random.Random(5)
+        for seed in range(100):
+            width = 1 + seed % 5
+            lists = [[choice.randint(-2, 2) for _ in range(width)] for _ in range(seed % 8)]
+            found = independent(lists)
+            self.assertEqual((len(found), rank(found + lists)), (rank(lists), rank(lists)))
+            for number, values in enumerate(lists):
+                told = independent(lists[:number])
+                new = rank(lists[:number]) < rank(lists[:number + 1])
+                self.assertEqual(any(eliminated(values, told)), new)
+                self.assertEqual((taken_in(values, told), len(told)), (new, rank(lists[:number + 1])))
+
     def test_rows_that_are_compared(self):
         ones, stern = Book(*ONES), Book(*STERN)
         places, lists = compared([row_named(ones, "o"), row_named(stern, "s"), row_named(ones, "e")])
         self.assertEqual(places, [0, 1, 2, 5])
         self.assertEqual(lists, [[0, 1, 1, 2], [0, 1, 1, 3], [1, 1, 1, 1]])
+
+    def test_rows_of_equal_books_need_no_more_places(self):
+        rows = [row_named(Book(*ONES), name) for name in "oe"]
+        self.assertEqual(compared(rows), ([0, 1], [[0, 1], [1, 1]]))
 
 
 if __name__ == "__main__":

@@ -12,13 +12,18 @@ def row_of(base, rows, coefficients):
     return Row(Book(base, rows), coefficients)
 
 
-def renamed(base, rows, coefficients):
-    """Write the row with other names."""
-    names = {name: letter for (name, _, _), letter in zip(rows, "mbzaylcxkdwj")}
-    return base, [
+def relettered(rows, letters):
+    """Write named rows with other names."""
+    names = {row[0]: letter for row, letter in zip(rows, letters)}
+    return [
         (names[name], start, [[(factor, names[other]) for factor, other in terms] for terms in formulas])
         for name, start, formulas in rows
-    ], coefficients
+    ]
+
+
+def renamed(base, rows, coefficients):
+    """Write the row with other names."""
+    return base, relettered(rows, "mbzaylcxkdwj"), coefficients
 
 
 def turned(base, rows, coefficients):
